@@ -1,0 +1,1 @@
+"""Registerways: all register allocations of a program, numbered and connected."""

@@ -1,0 +1,192 @@
+"""The files of the package keep to the subset of the language that can be checked mechanically."""
+
+import ast
+import pathlib
+import re
+import unittest
+
+PACKAGE = pathlib.Path(__file__).resolve().parent.parent / "registerways"
+
+BUILTINS = {
+    "len", "range", "enumerate", "zip", "min", "max", "sum", "abs", "sorted", "reversed", "int", "str", "bool",
+    "bytes", "list", "tuple", "dict", "set", "frozenset", "isinstance", "ord", "repr", "any", "all", "divmod",
+    "iter", "next", "map", "Exception", "ValueError", "TypeError", "KeyError", "IndexError", "LookupError",
+    "ZeroDivisionError", "ArithmeticError", "OverflowError", "RuntimeError", "NotImplementedError",
+    "AttributeError", "StopIteration", "NotImplemented", "property", "staticmethod", "classmethod", "super",
+}
+
+LIBRARY = {
+    "heapq": {"heappush", "heappop", "heapify", "heapreplace", "heappushpop"},
+    "math": {"gcd", "lcm", "isqrt", "comb", "perm", "factorial"},
+    "itertools": {"product", "combinations", "permutations"},
+}
+
+METHODS = set(
+    "append clear copy count endswith extend find get index insert isalnum isalpha isdigit islower isspace isupper "
+    "items join keys ljust lower lstrip partition pop remove replace reverse rfind rjust rpartition rsplit rstrip "
+    "setdefault split splitlines startswith strip update upper values zfill bit_length add discard".split()
+)
+
+STATEMENTS = (
+    ast.Assign, ast.AugAssign, ast.AnnAssign, ast.If, ast.While, ast.For, ast.Return, ast.Break, ast.Continue,
+    ast.Pass, ast.Raise, ast.Assert, ast.Delete, ast.Nonlocal, ast.Match, ast.With, ast.Try, ast.Expr,
+    ast.FunctionDef, ast.ClassDef, ast.ImportFrom,
+)
+
+OUTER_WORDS = re.compile(r"\b(register|mro|elements|open|input|law|eval|exec|getattr|setattr|globals|vars|_wall)\b")
+
+
+def trees():
+    for path in sorted(PACKAGE.rglob("*.py")):
+        yield path.name, ast.parse(path.read_text(encoding="utf-8"))
+
+
+def every(tree, kind):
+    return [node for node in ast.walk(tree) if isinstance(node, kind)]
+
+
+def docstrings(tree):
+    found = []
+    for node in [tree, *every(tree, (ast.FunctionDef, ast.ClassDef))]:
+        if ast.get_docstring(node) is not None:
+            found.append(node.body[0].value)
+    return found
+
+
+class LanguageTest(unittest.TestCase):
+    def test_the_package_holds_nothing_but_its_files(self):
+        for path in PACKAGE.iterdir():
+            if path.name != "__pycache__":
+                self.assertRegex(path.name, r"^[a-z_][a-z0-9_]*\.py$")
+        self.assertTrue((PACKAGE / "__init__.py").is_file())
+
+    def test_lines_and_characters(self):
+        for path in PACKAGE.rglob("*.py"):
+            text = path.read_bytes().decode("ascii")
+            self.assertTrue(text.endswith("\n"), path.name)
+            lines = text.split("\n")
+            self.assertLessEqual(len(lines) - 1, 399, path.name)
+            for number, line in enumerate(lines, start=1):
+                with self.subTest(file=path.name, line=number):
+                    self.assertLessEqual(len(line), 120)
+                    self.assertRegex(line, r"^[ -~]*$")
+
+    def test_functions_are_short(self):
+        for file, tree in trees():
+            for node in every(tree, ast.FunctionDef):
+                with self.subTest(file=file, name=node.name):
+                    self.assertLessEqual(node.end_lineno - node.lineno + 1, 40)
+
+    def test_statements(self):
+        for file, tree in trees():
+            for node in every(tree, ast.stmt):
+                with self.subTest(file=file, line=node.lineno):
+                    self.assertIsInstance(node, STATEMENTS)
+
+    def test_module_level(self):
+        for file, tree in trees():
+            names = []
+            for node in tree.body:
+                with self.subTest(file=file, line=node.lineno):
+                    if isinstance(node, ast.ImportFrom):
+                        names.extend(alias.asname or alias.name for alias in node.names)
+                    elif isinstance(node, ast.Assign):
+                        self.assertEqual(len(node.targets), 1)
+                        self.assertEqual(every(node.value, (ast.Call, ast.Set)), [])
+                        names.append(node.targets[0].id)
+                    elif isinstance(node, (ast.FunctionDef, ast.ClassDef)):
+                        names.append(node.name)
+                    else:
+                        self.assertIn(node.value, docstrings(tree))
+            self.assertEqual(len(names), len(set(names)), file)
+
+    def test_imports(self):
+        edges = {}
+        for file, tree in trees():
+            edges[file] = []
+            for node in every(tree, (ast.Import, ast.ImportFrom)):
+                with self.subTest(file=file, line=node.lineno):
+                    self.assertIsInstance(node, ast.ImportFrom)
+                    self.assertIn(node, tree.body)
+                    self.assertEqual(node.level, 0)
+                    names = {alias.name for alias in node.names}
+                    if node.module in LIBRARY:
+                        self.assertLessEqual(names, LIBRARY[node.module])
+                        continue
+                    package, source = node.module.split(".")
+                    self.assertEqual(package, "registerways")
+                    defined = ast.parse((PACKAGE / f"{source}.py").read_text(encoding="utf-8")).body
+                    self.assertLessEqual(names, {getattr(each, "name", None) for each in defined} | {
+                        each.targets[0].id for each in defined if isinstance(each, ast.Assign)
+                    })
+                    edges[file].append(f"{source}.py")
+        while edges:
+            free = [file for file, sources in edges.items() if not any(source in edges for source in sources)]
+            self.assertTrue(free, f"these import from each other: {sorted(edges)}")
+            for file in free:
+                del edges[file]
+
+    def test_no_local_name_is_that_of_an_import_or_a_class(self):
+        for file, tree in trees():
+            outer = {alias.name for node in every(tree, ast.ImportFrom) for alias in node.names}
+            outer |= {node.name for node in every(tree, ast.ClassDef)}
+            own = {node.arg for node in every(tree, ast.arg)}
+            own |= {node.id for node in every(tree, ast.Name) if isinstance(node.ctx, ast.Store)}
+            self.assertEqual(own & outer, set(), file)
+
+    def test_names(self):
+        import builtins
+        barred = set(dir(builtins))
+        for file, tree in trees():
+            given = {node.arg for node in every(tree, ast.arg)}
+            given |= {node.id for node in every(tree, ast.Name) if isinstance(node.ctx, ast.Store)}
+            given |= {node.name for node in tree.body if isinstance(node, (ast.FunctionDef, ast.ClassDef))}
+            self.assertEqual(given & barred, set(), file)
+            for name in given:
+                self.assertNotRegex(name, "^__", file)
+                self.assertNotRegex(name, f"^(?:{OUTER_WORDS.pattern})$", file)
+            for node in every(tree, ast.Name):
+                if isinstance(node.ctx, ast.Load) and node.id in barred:
+                    with self.subTest(file=file, line=node.lineno):
+                        self.assertIn(node.id, BUILTINS)
+
+    def test_methods(self):
+        own = set()
+        for _, tree in trees():
+            own |= {node.name for node in every(tree, ast.FunctionDef)}
+        for file, tree in trees():
+            for node in every(tree, ast.Call):
+                if isinstance(node.func, ast.Attribute):
+                    with self.subTest(file=file, line=node.lineno):
+                        self.assertIn(node.func.attr, METHODS | own)
+
+    def test_expressions(self):
+        for file, tree in trees():
+            self.assertEqual(every(tree, (ast.Div, ast.Await, ast.Global)), [], file)
+            for node in every(tree, ast.Constant):
+                with self.subTest(file=file, line=node.lineno):
+                    self.assertNotIsInstance(node.value, (float, complex))
+                    if isinstance(node.value, str):
+                        self.assertNotIn("%", node.value)
+                        self.assertNotRegex(node.value, r"^__.*__$")
+
+    def test_is_stands_beside_none_true_and_false(self):
+        for file, tree in trees():
+            for node in every(tree, ast.Compare):
+                for sign, side in zip(node.ops, node.comparators):
+                    if isinstance(sign, (ast.Is, ast.IsNot)):
+                        with self.subTest(file=file, line=node.lineno):
+                            self.assertIsInstance(side, ast.Constant)
+                            self.assertIn(side.value, (None, True, False))
+
+    def test_docstrings(self):
+        for file, tree in trees():
+            for node in [tree, *every(tree, (ast.FunctionDef, ast.ClassDef))]:
+                name = getattr(node, "name", file)
+                if not name.startswith("__"):
+                    with self.subTest(file=file, name=name):
+                        self.assertIsNotNone(ast.get_docstring(node))
+
+
+if __name__ == "__main__":
+    unittest.main()
