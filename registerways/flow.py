@@ -1,6 +1,6 @@
 """Which blocks of a program lie on all paths to which others."""
 
-from registerways.graphs import directly_below, dominators, ways
+from registerways.graphs import directly_below, dominators, path_to, ways
 
 
 def dominates(program, upper, lower):
@@ -21,9 +21,4 @@ def avoiding(program, upper, lower):
     before = ways(program.blocks, upper)
     if lower not in before:
         return None
-    backwards = []
-    block = lower
-    while block is not None:
-        backwards.append(block)
-        block = before[block]
-    return tuple(backwards[::-1])
+    return path_to(before, lower)

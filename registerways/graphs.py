@@ -24,6 +24,16 @@ def ways(blocks, left_out):
     return before
 
 
+def path_to(before, last):
+    """The tuple that ends with the given one, in which before tells of each the one before it, or None."""
+    backwards = []
+    step = last
+    while step is not None:
+        backwards.append(step)
+        step = before[step]
+    return tuple(backwards[::-1])
+
+
 def dominators(blocks):
     """For each block the ascending tuple of the blocks that dominate it; each must be reached from the entry."""
     numbers = list(range(len(blocks)))

@@ -3,11 +3,19 @@
 from registerways.blocks import assigned, jumps, operands_of_end, operands_of_instruction
 from registerways.errors import AssignedTwice, NoBlock, NotAssigned, NotReached, WrongCount
 from registerways.graphs import directly_below, dominators, from_the_top, ways
+from registerways.lifetimes import conflicts_before, lifetimes
 from registerways.tuples import in_tuples
 
 
 class Program:
-    """A program of one or more blocks (parameters, instructions, end); block 0 is the entry."""
+    """A program of one or more blocks (parameters, instructions, end); block 0 is the entry.
+
+    Besides the blocks it keeps what other modules ask for again and again:
+    places, a dict from each variable to the point at which it is assigned;
+    lives and holds, dicts from each point to the variables that are live and
+    held there; earlier, a dict from each variable to those that conflict with
+    it and come before it. They are not changed once the program is made.
+    """
 
     def __init__(self, blocks):
         checked = in_tuples(blocks)
@@ -17,9 +25,14 @@ class Program:
         check_reached(checked)
         above = dominators(checked)
         check_uses(checked, places, above)
+        order = variables(checked, above)
+        lives, holds = lifetimes(checked, places, order)
         self.blocks = checked
-        self._places = places
-        self._order = variables(checked, above)
+        self.places = places
+        self.lives = lives
+        self.holds = holds
+        self.earlier = conflicts_before(places, order, holds)
+        self._order = order
 
     @property
     def order(self):
@@ -30,7 +43,7 @@ class Program:
         return len(self._order)
 
     def __contains__(self, name):
-        return name in self._places
+        return name in self.places
 
 
 def assignments(blocks):

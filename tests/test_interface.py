@@ -1,4 +1,4 @@
-"""[52]: each name stands under its module, with its parameters and its own methods."""
+"""[52]: each name stands under its module, with its parameters, their defaults, and its own methods."""
 
 import importlib
 import inspect
@@ -14,10 +14,40 @@ FUNCTIONS = {
         "program_text": ("program",),
         "read_program": ("text",),
     },
+    "running": {
+        "run": ("program", "inputs", ("fuel", 200)),
+        "trail": ("program", "inputs", ("fuel", 200)),
+    },
+    "liveness": {
+        "points": ("program",),
+        "live": ("program", "point"),
+        "held": ("program", "point"),
+        "use_path": ("program", "point", "name"),
+    },
+    "conflicts": {
+        "conflict": ("program", "first", "second"),
+        "earlier": ("program", "name"),
+        "conflicts": ("program",),
+        "fewest": ("program",),
+    },
+    "allocations": {
+        "how_many": ("program", "size"),
+        "allocation_at": ("program", "size", "number"),
+        "first_fit": ("program", "size"),
+        "each_allocation": ("program", "size", ("start", 0)),
+    },
 }
 
 CLASSES = {
     "programs": {"Program": (("blocks",), ("__len__", "__contains__"), ("order",))},
+    "running": {"Result": (("told", "given", "spent"), (), ())},
+    "allocations": {
+        "Allocation": (
+            ("program", "size", "registers"),
+            ("__getitem__", "__eq__", "__lt__", "__le__", "__gt__", "__ge__"),
+            ("rank",),
+        ),
+    },
 }
 
 
@@ -26,7 +56,11 @@ def module(name):
 
 
 def parameters_of(function):
-    return tuple(inspect.signature(function).parameters)
+    """Its parameters: the name of each, or the name and the default value."""
+    return tuple(
+        each.name if each.default is inspect.Parameter.empty else (each.name, each.default)
+        for each in inspect.signature(function).parameters.values()
+    )
 
 
 class InterfaceTest(unittest.TestCase):
@@ -53,6 +87,18 @@ class InterfaceTest(unittest.TestCase):
                         self.assertTrue(inspect.isfunction(vars(found)[method]))
                     for each in properties:
                         self.assertIsInstance(vars(found)[each], property)
+
+    def test_attributes_are_set_when_an_object_is_created(self):
+        program = module("texts").read_program("block a\ngive a")
+        for made, names in (
+            (program, ("blocks",)),
+            (module("running").Result((), None, 0), ("told", "given", "spent")),
+            (module("running").run(program, (1,)), ("told", "given", "spent")),
+            (module("allocations").Allocation(program, 1, (0,)), ("program", "size", "registers")),
+        ):
+            for name in names:
+                with self.subTest(made=made, name=name):
+                    self.assertIn(name, vars(made))
 
     def test_errors_stand_in_their_module(self):
         for name, value in vars(module("errors")).items():

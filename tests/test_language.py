@@ -33,6 +33,26 @@ STATEMENTS = (
     ast.FunctionDef, ast.ClassDef, ast.ImportFrom,
 )
 
+# Not as attributes, because values of Python have methods of these names.
+ATTRIBUTES = {
+    "items", "keys", "values", "pop", "update", "append", "clear", "extend", "insert", "remove", "reverse",
+    "setdefault", "sort", "args", "encode", "decode", "hex", "fromhex", "format", "format_map", "mro", "register",
+    "elements", "open", "input", "law",
+}
+
+BARRED_WORDS = re.compile(
+    r"\b(type|typing|typing_extensions|enum|Enum|IntEnum|StrEnum|Flag|IntFlag|Generic|Protocol|ABC|ABCMeta|namedtuple"
+    r"|NamedTuple|TypedDict|TYPE_CHECKING|abstractmethod|_wall|_WallAttr)\b|dataclass|overload|contextmanager"
+    r"|\(type\)|Meta|metaclass="
+)
+
+CALLED_OVER_LISTS = ("any", "all", "min", "max", "sum", "sorted")
+
+# What changes a value: none of it stands in what an operator or a property runs.
+CHANGING = {
+    "append", "clear", "extend", "insert", "pop", "remove", "reverse", "setdefault", "update", "add", "discard",
+}
+
 OUTER_WORDS = re.compile(r"\b(register|mro|elements|open|input|law|eval|exec|getattr|setattr|globals|vars|_wall)\b")
 
 
@@ -169,6 +189,79 @@ class LanguageTest(unittest.TestCase):
                     if isinstance(node.value, str):
                         self.assertNotIn("%", node.value)
                         self.assertNotRegex(node.value, r"^__.*__$")
+
+    def test_attributes(self):
+        for file, tree in trees():
+            for node in every(tree, ast.Attribute):
+                if isinstance(node.ctx, ast.Store):
+                    with self.subTest(file=file, line=node.lineno):
+                        self.assertNotIn(node.attr, ATTRIBUTES)
+
+    def test_words(self):
+        for path in PACKAGE.rglob("*.py"):
+            for number, line in enumerate(path.read_text(encoding="utf-8").split("\n"), start=1):
+                with self.subTest(file=path.name, line=number):
+                    self.assertIsNone(BARRED_WORDS.search(line))
+
+    def test_lists_instead_of_generators(self):
+        for file, tree in trees():
+            for node in every(tree, ast.Call):
+                if isinstance(node.func, ast.Name) and node.func.id in CALLED_OVER_LISTS:
+                    with self.subTest(file=file, line=node.lineno):
+                        self.assertNotIsInstance(node.args[0], ast.GeneratorExp)
+
+    def test_generators_are_iterated_at_once(self):
+        generators, others = set(), set()
+        for _, tree in trees():
+            for node in every(tree, ast.FunctionDef):
+                (generators if every(node, (ast.Yield, ast.YieldFrom)) else others).add(node.name)
+        self.assertEqual(generators & others, set())
+        for file, tree in trees():
+            at_once = [node.iter for node in every(tree, (ast.For, ast.comprehension))]
+            for node in every(tree, ast.Call):
+                if isinstance(node.func, ast.Name) and node.func.id in ("list", "tuple", "dict", "sum"):
+                    at_once.extend(node.args)
+            for node in every(tree, ast.Call):
+                name = getattr(node.func, "id", getattr(node.func, "attr", None))
+                if name in generators:
+                    with self.subTest(file=file, line=node.lineno):
+                        self.assertIn(node, at_once)
+
+    def test_a_class_with_items_says_how_it_is_iterated(self):
+        for file, tree in trees():
+            for node in every(tree, ast.ClassDef):
+                names = [each.name for each in node.body if isinstance(each, ast.FunctionDef)]
+                with self.subTest(file=file, name=node.name):
+                    self.assertEqual(len(names), len(set(names)))
+                    self.assertTrue("__iter__" in names or "__getitem__" not in names)
+
+    def test_operators_and_properties_change_nothing(self):
+        functions = {}
+        waiting = []
+        for file, tree in trees():
+            for node in every(tree, ast.FunctionDef):
+                functions.setdefault(node.name, []).append((file, node))
+                if node.name.startswith("__") and node.name not in ("__init__", "__call__"):
+                    waiting.append(node.name)
+                elif any(getattr(each, "id", None) == "property" for each in node.decorator_list):
+                    waiting.append(node.name)
+        seen = set()
+        while waiting:
+            name = waiting.pop()
+            if name in seen or name not in functions:
+                continue
+            seen.add(name)
+            for file, node in functions[name]:
+                with self.subTest(file=file, name=name):
+                    for each in every(node, ast.Attribute):
+                        self.assertIsInstance(each.ctx, ast.Load)
+                    self.assertEqual(every(node, (ast.Yield, ast.YieldFrom, ast.Global)), [])
+                    for call in every(node, ast.Call):
+                        if isinstance(call.func, ast.Attribute):
+                            self.assertNotIn(call.func.attr, CHANGING)
+                            waiting.append(call.func.attr)
+                        else:
+                            waiting.append(call.func.id)
 
     def test_is_stands_beside_none_true_and_false(self):
         for file, tree in trees():

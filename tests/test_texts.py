@@ -330,7 +330,9 @@ class ChangedTextTest(TextTest):
         base = "block a b\nc = less a 100\nif c 1 a 6 else 2\nblock x y\ntell x\ngo 2\nblock\ngive b a"
         words = re.split("( |\n)", base)
         for at in range(0, len(words), 2):
-            for word in ("", "block", "else", "give", "go", "if", "tell", "=", "add", "a", "0", "7 8", "else 1", "1 else"):
+            for word in (
+                "", "block", "else", "give", "go", "if", "tell", "=", "add", "a", "0", "7 8", "else 1", "1 else",
+            ):
                 self.check("".join([*words[:at], word, *words[at + 1:]]))
                 self.check("".join([*words[:at], word + " ", *words[at:]]))
             self.check("".join([*words[:at], *words[at + 2:]]))
