@@ -1,6 +1,7 @@
 """[24] to [27], and of [2] that allocations are counted and numbered: allocations and their numbers."""
 
 import itertools
+import operator
 import unittest
 
 from registerways.allocations import Allocation, allocation_at, each_allocation, first_fit, how_many
@@ -148,6 +149,13 @@ class ComparingTest(unittest.TestCase):
         self.assertIs(one <= other, left <= right)
         self.assertIs(one > other, left > right)
         self.assertIs(one >= other, left >= right)
+        # Python asks the other one's method if one says nothing, so each is asked by itself.
+        own = vars(Allocation)
+        self.assertIs(own["__eq__"](one, other), left == right)
+        self.assertIs(own["__lt__"](one, other), left < right)
+        self.assertIs(own["__le__"](one, other), left <= right)
+        self.assertIs(own["__gt__"](one, other), left > right)
+        self.assertIs(own["__ge__"](one, other), left >= right)
 
     def test_all_of_two_sizes(self):
         p = read_program("block a b\nc = add a 1\ngive c")
@@ -186,6 +194,23 @@ class ComparingTest(unittest.TestCase):
         for other in (None, 0, a.registers, "a"):
             self.assertFalse(a == other)
             self.assertTrue(a != other)
+
+
+    def test_something_else_has_no_place_among_them(self):
+        a = first_fit(read_program(EXAMPLE), 3)
+        for compare in (operator.lt, operator.le, operator.gt, operator.ge):
+            with self.assertRaises(TypeError):
+                compare(a, a.registers)
+
+    def test_they_can_be_sorted(self):
+        p = read_program(EXAMPLE)
+        found = list(each_allocation(p, 3))
+        self.assertEqual([each.rank for each in sorted(found[::-1])], list(range(36)))
+        self.assertEqual((min(found[::-1]).rank, max(found).rank), (0, 35))
+
+    def test_an_allocation_is_not_iterated_over(self):
+        with self.assertRaises(TypeError):
+            list(first_fit(read_program(EXAMPLE), 3))
 
 
 class CountingTest(unittest.TestCase):
