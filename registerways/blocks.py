@@ -37,3 +37,38 @@ def operands_of_end(end):
     for _, arguments in jumps(end):
         operands.extend(arguments)
     return tuple(operands)
+
+
+def replaced(blocks, target, operand):
+    """Blocks with target(name) in the place of each name that they assign, and operand(x) in that of each operand x."""
+    found = []
+    for parameters, instructions, end in blocks:
+        found.append((
+            tuple([target(name) for name in parameters]),
+            tuple([replaced_instruction(instruction, target, operand) for instruction in instructions]),
+            replaced_end(end, operand),
+        ))
+    return tuple(found)
+
+
+def replaced_instruction(instruction, target, operand):
+    """An instruction with other values in the place of its name and its operands."""
+    if instruction[0] == "tell":
+        return ("tell", operand(instruction[1]))
+    name, operation, x, y = instruction
+    return (target(name), operation, operand(x), operand(y))
+
+
+def replaced_end(end, operand):
+    """An end with other values in the place of its operands."""
+    if end[0] == "give":
+        return ("give", tuple([operand(x) for x in end[1]]))
+    if end[0] == "go":
+        _, block, arguments = end
+        return ("go", block, tuple([operand(x) for x in arguments]))
+    _, tested, block, arguments, other, others = end
+    return (
+        "if", operand(tested),
+        block, tuple([operand(x) for x in arguments]),
+        other, tuple([operand(x) for x in others]),
+    )

@@ -5,22 +5,20 @@ from registerways.errors import WrongCount
 from registerways.words import result_of
 
 
-class Execution:
-    """A run of blocks that has come to a point and goes on by one instruction or end at a time.
+def check_inputs(inputs, parameters):
+    """Raise WrongCount for the entry if it has not as many parameters as there are inputs."""
+    if len(inputs) != len(parameters):
+        raise WrongCount(0)
 
-    words is a dict from the variables that have been assigned so far to their
-    words; told is the list of the told words; given is the tuple of the given
-    ones, or None as long as no end "give" has been executed; spent is the
-    number of instructions and ends that have been executed.
+
+class Progress:
+    """How far a run has come: what all kinds of runs have in common.
+
+    told is the list of the told words; given is the tuple of the given ones,
+    or None as long as nothing has been given; spent is the fuel used up so far.
     """
 
-    def __init__(self, blocks, inputs):
-        parameters, _, _ = blocks[0]
-        if len(inputs) != len(parameters):
-            raise WrongCount(0)
-        self.blocks = blocks
-        self.words = dict(zip(parameters, inputs))
-        self.point = (0, 0)
+    def __init__(self):
         self.told = []
         self.given = None
         self.spent = 0
@@ -28,6 +26,21 @@ class Execution:
     def goes_on(self, fuel):
         """Whether something is left to be executed with so much fuel in all."""
         return self.given is None and self.spent < fuel
+
+
+class Execution(Progress):
+    """A run of blocks that has come to a point and goes on by one instruction or end at a time.
+
+    words is a dict from the variables that have been assigned so far to their words.
+    """
+
+    def __init__(self, blocks, inputs):
+        super().__init__()
+        parameters, _, _ = blocks[0]
+        check_inputs(inputs, parameters)
+        self.blocks = blocks
+        self.words = dict(zip(parameters, inputs))
+        self.point = (0, 0)
 
     def execute(self):
         """Execute the instruction or the end behind the present point."""

@@ -97,3 +97,13 @@ def conflicts_before(places, order, holds):
         held = holds[places[name]]
         earlier[name] = held[:held.index(name)]
     return earlier
+
+
+def partners_of(order, earlier):
+    """A dict from each variable to the tuple of all variables that conflict with it, in the order."""
+    partners = {name: [] for name in order}
+    for name in order:
+        partners[name].extend(earlier[name])
+        for other in earlier[name]:
+            partners[other].append(name)
+    return tuples_of(partners)

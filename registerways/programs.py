@@ -3,7 +3,7 @@
 from registerways.blocks import assigned, jumps, operands_of_end, operands_of_instruction
 from registerways.errors import AssignedTwice, NoBlock, NotAssigned, NotReached, WrongCount
 from registerways.graphs import directly_below, dominators, from_the_top, ways
-from registerways.lifetimes import conflicts_before, lifetimes
+from registerways.lifetimes import conflicts_before, lifetimes, partners_of
 from registerways.tuples import in_tuples
 
 
@@ -13,8 +13,9 @@ class Program:
     Besides the blocks it keeps what other modules ask for again and again:
     places, a dict from each variable to the point at which it is assigned;
     lives and holds, dicts from each point to the variables that are live and
-    held there; earlier, a dict from each variable to those that conflict with
-    it and come before it. They are not changed once the program is made.
+    held there; partners, a dict from each variable to those that conflict with
+    it, and earlier, one to those of them that come before it. They are not
+    changed once the program is made.
     """
 
     def __init__(self, blocks):
@@ -32,6 +33,7 @@ class Program:
         self.lives = lives
         self.holds = holds
         self.earlier = conflicts_before(places, order, holds)
+        self.partners = partners_of(order, self.earlier)
         self._order = order
 
     @property

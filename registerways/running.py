@@ -15,7 +15,11 @@ class Result:
 
 def run(program, inputs, fuel=200):
     """The result of a run of a program; raises WrongCount(0) if there are too few or too many inputs."""
-    execution = Execution(program.blocks, inputs)
+    return completed(Execution(program.blocks, inputs), fuel)
+
+
+def completed(execution, fuel):
+    """The result of an execution that goes on as long as there is fuel."""
     while execution.goes_on(fuel):
         execution.execute()
     return Result(execution.told, execution.given, execution.spent)

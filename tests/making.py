@@ -2,10 +2,11 @@
 
 import random
 
+from registerways.allocations import allocation_at, how_many
 from registerways.programs import Program
 
 OPERATIONS = ("add", "sub", "mul", "less", "equal")
-NAMES = tuple(first + second for first in ("", "k", "zz") for second in "qawxdremnbvcyputlohsgjfi")
+NAMES = tuple(first + second for first in ("", "k", "zz", "pqrst") for second in "qawxdremnbvcyputlohsgjfi")
 WORDS = (0, 1, 2, 3, 100, 255, 256, 32768, 65534, 65535)
 
 
@@ -90,3 +91,43 @@ def made_inputs(seed, program):
     """Words for the parameters of the entry."""
     dice = random.Random(seed)
     return tuple(dice.choice(WORDS) for _ in program.blocks[0][0])
+
+
+def made_large(seed):
+    """A program of twelve blocks and of 36 to 40 variables."""
+    for more in range(1000):
+        blocks = made_blocks(1000 * seed + more, most_blocks=12, most_parameters=2, most_instructions=6)
+        if len(blocks) == 12:
+            program = Program(blocks)
+            if 36 <= len(program) <= 40:
+                return program
+    raise AssertionError("none of these numbers makes one")
+
+
+def made_conflicts(seed, many, most_partners):
+    """Names, and pairs of them that are the conflicts of some program.
+
+    Each name is a partner of at most so many of the names before it, which are
+    all partners of one another.
+    """
+    dice = random.Random(seed)
+    names = [first + second for first in "abcd" for second in "abcdefghijklmnopqrstuvwxyz"][:many]
+    before = {}
+    for at, name in enumerate(names):
+        base = dice.choice(names[:at]) if at else None
+        known = [base] + before[base] if at else []
+        # As many as possible at times, so that there are sets of many names.
+        some = dice.choice((len(known), dice.randint(0, len(known))))
+        before[name] = dice.sample(known, min(some, most_partners))
+    pairs = [dice.choice(((name, other), (other, name))) for name in names for other in before[name]]
+    dice.shuffle(pairs)
+    dice.shuffle(names)
+    return tuple(names), tuple(pairs)
+
+
+def some_allocations(seed, program, size, many=3):
+    """The first and the last allocation of a size, and some between them, in ascending order."""
+    dice = random.Random(seed)
+    number = how_many(program, size)
+    wanted = {0, number - 1} | {dice.randrange(number) for _ in range(many)} if number else set()
+    return [allocation_at(program, size, each) for each in sorted(wanted)]

@@ -1,8 +1,8 @@
-"""Section 16: the sessions, as far as they have landed. Each stands alone."""
+"""Section 16: all its sessions. Each stands alone."""
 
 import unittest
 
-from registerways.errors import BadText, Conflict, TooFew
+from registerways.errors import BadText, Chordless, Conflict, Taken, TooFew
 from registerways.texts import program_text, read_program
 
 TEXT = (
@@ -71,6 +71,82 @@ class ExampleTest(unittest.TestCase):
         from registerways.running import run
         r = run(p, (3, 250))
         self.assertEqual([r.told, r.given, r.spent], [(), (250,), 8])
+
+    def test_swap_way(self):
+        p = read_program(TEXT)
+        from registerways.allocations import Allocation, first_fit
+        from registerways.swaps import swap_way
+        self.assertEqual(
+            swap_way(first_fit(p, 3), Allocation(p, 3, (1, 0, 2, 0, 1, 1))),
+            (("a", 1), ("x", 2), ("y", 0)),
+        )
+
+    def test_code(self):
+        p = read_program(TEXT)
+        from registerways.allocations import first_fit
+        from registerways.machines import Code
+        r = Code(first_fit(p, 3))((3, 250))
+        self.assertEqual([r.told, r.given, r.spent], [(), (250,), 8])
+
+    def test_in_turn(self):
+        from registerways.copying import in_turn
+        self.assertEqual(len(in_turn(((0, ("reg", 1)), (1, ("reg", 0))), 3)), 3)
+
+    def test_copies_needed(self):
+        p = read_program(TEXT)
+        from registerways.allocations import first_fit
+        from registerways.flatcode import copies_needed
+        self.assertEqual(copies_needed(first_fit(p, 3)), 3)
+
+    def test_fixed(self):
+        p = read_program(TEXT)
+        from registerways.allocations import first_fit
+        from registerways.joining import fixed
+        self.assertEqual(fixed(first_fit(p, 3)), ("x", "y", "t", "z"))
+
+    def test_joined(self):
+        p = read_program(TEXT)
+        from registerways.allocations import Allocation, first_fit
+        from registerways.joining import joined
+        v = joined(first_fit(p, 3), Allocation(p, 3, (1, 0, 2, 0, 1, 1)))
+        self.assertEqual([v.holds, v.way, v.name, v.point, v.numbers], [False, None, "x", (1, 1), None])
+
+    def test_reachable(self):
+        p = read_program(TEXT)
+        from registerways.allocations import first_fit
+        from registerways.joining import reachable
+        self.assertEqual(reachable(first_fit(p, 3)), (0, 6, 12, 18, 24, 30))
+
+    def test_realized(self):
+        from registerways.shapes import realized
+        with self.assertRaises(Chordless):
+            realized(("a", "b", "c", "d"), (("a", "b"), ("b", "c"), ("c", "d"), ("d", "a")))
+        from registerways.conflicts import conflict
+        q = realized(("a", "b", "c"), (("a", "b"), ("c", "b")))
+        self.assertEqual(
+            [conflict(q, "a", "b"), conflict(q, "b", "c"), conflict(q, "a", "c"), len(q)],
+            [True, True, False, 3],
+        )
+
+    def test_reassigned(self):
+        p = read_program(TEXT)
+        from registerways.allocations import first_fit
+        from registerways.reassigning import free_registers, reassigned
+        a = first_fit(p, 3)
+        self.assertEqual(
+            [free_registers(a, "a"), reassigned(a, "a", 2).registers],
+            [(2,), (2, 1, 0, 1, 2, 2)],
+        )
+        with self.assertRaises(Taken) as told:
+            reassigned(first_fit(p, 3), "t", 0)
+        self.assertEqual(told.exception.other, "x")
+
+    def test_kept(self):
+        p = read_program(TEXT)
+        from registerways.keeping import Kept
+        k = Kept(p, 3)
+        k.put_in(3, 0, ("w", "add", "x", 1))
+        self.assertEqual([k.now["w"], k.now.program.order, k.changed], [1, ("a", "b", "x", "y", "t", "z", "w"), 0])
 
     def test_use_path(self):
         p = read_program(TEXT)

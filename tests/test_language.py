@@ -263,6 +263,105 @@ class LanguageTest(unittest.TestCase):
                         else:
                             waiting.append(call.func.id)
 
+    def test_no_sets(self):
+        for file, tree in trees():
+            self.assertEqual(every(tree, (ast.Set, ast.SetComp)), [], file)
+            for node in every(tree, ast.Name):
+                self.assertNotIn(node.id, ("set", "frozenset"), file)
+
+    def test_no_loop_changes_what_it_goes_over(self):
+        for file, tree in trees():
+            for loop in every(tree, ast.For):
+                parts = [node for node in ast.walk(loop.iter) if isinstance(node, (ast.Name, ast.Attribute))]
+                gone_over = {ast.dump(node) for node in parts}
+                changed = []
+                for node in (each for row in loop.body for each in ast.walk(row)):
+                    if isinstance(node, ast.Call) and isinstance(node.func, ast.Attribute):
+                        if node.func.attr in CHANGING:
+                            changed.append(node.func.value)
+                    elif isinstance(node, ast.Subscript) and not isinstance(node.ctx, ast.Load):
+                        changed.append(node.value)
+                with self.subTest(file=file, line=loop.lineno):
+                    self.assertEqual(gone_over & {ast.dump(node) for node in changed}, set())
+
+    def test_stars_in_calls_stand_before_names(self):
+        for file, tree in trees():
+            for node in every(tree, ast.Call):
+                for each in node.args:
+                    if isinstance(each, ast.Starred):
+                        with self.subTest(file=file, line=node.lineno):
+                            self.assertIsInstance(each.value, (ast.Name, ast.Attribute))
+
+    def test_lambdas_and_default_values(self):
+        for file, tree in trees():
+            found = []
+            for node in every(tree, ast.Lambda):
+                found.append((node.lineno, tuple(each.arg for each in node.args.args)))
+            self.assertEqual(len(found), len(set(found)), file)
+            for node in every(tree, ast.arguments):
+                for value in node.defaults:
+                    self.assertIsInstance(value, ast.Constant)
+
+    def test_super_is_called_in_init_only(self):
+        for file, tree in trees():
+            allowed = set()
+            for function in every(tree, ast.FunctionDef):
+                if function.name == "__init__":
+                    allowed |= {ast.dump(row) for row in function.body if isinstance(row, ast.Expr)}
+            for node in every(tree, ast.Expr):
+                if "'super'" in ast.dump(node):
+                    self.assertIn(ast.dump(node), allowed, file)
+                    self.assertRegex(ast.unparse(node), r"^super\(\)\.__init__\(")
+
+    def test_methods_and_attributes_have_unlike_names(self):
+        properties, methods, attributes = set(), set(), set()
+        for _, tree in trees():
+            for node in every(tree, ast.ClassDef):
+                for each in node.body:
+                    if isinstance(each, ast.FunctionDef):
+                        (properties if each.decorator_list else methods).add(each.name)
+            attributes |= {
+                node.attr for node in every(tree, ast.Attribute)
+                if isinstance(node.ctx, ast.Store) and not isinstance(node.value, ast.Subscript)
+            }
+        self.assertEqual(methods & attributes, set())
+        self.assertEqual(properties & attributes, set())
+        self.assertEqual(properties & methods, set())
+
+    def test_only_what_stands_beside_a_class_is_read_off_it(self):
+        classes = {node.name for _, tree in trees() for node in every(tree, ast.ClassDef)}
+        for file, tree in trees():
+            for node in every(tree, ast.Attribute):
+                if isinstance(node.value, ast.Name):
+                    with self.subTest(file=file, line=node.lineno):
+                        self.assertNotIn(node.value.id, classes)
+
+    def test_each_attribute_that_is_read_is_assigned(self):
+        known = set(METHODS) | {"__init__"}
+        for _, tree in trees():
+            known |= {node.attr for node in every(tree, ast.Attribute) if isinstance(node.ctx, ast.Store)}
+            known |= {node.name for node in every(tree, ast.FunctionDef)}
+        for file, tree in trees():
+            for node in every(tree, ast.Attribute):
+                with self.subTest(file=file, line=node.lineno):
+                    self.assertIn(node.attr, known)
+
+    def test_each_import_and_function_is_used(self):
+        names = {}
+        for file, tree in trees():
+            names[file] = {node.id for node in every(tree, ast.Name)}
+            names[file] |= {node.attr for node in every(tree, ast.Attribute)}
+        interface = pathlib.Path(__file__).with_name("test_interface.py").read_text(encoding="utf-8")
+        for file, tree in trees():
+            for node in every(tree, ast.ImportFrom):
+                for alias in node.names:
+                    with self.subTest(file=file, name=alias.name):
+                        self.assertIn(alias.name, names[file])
+            for node in every(tree, ast.FunctionDef):
+                if not node.name.startswith("__") and f'"{node.name}"' not in interface:
+                    with self.subTest(file=file, name=node.name):
+                        self.assertTrue(any(node.name in each for each in names.values()))
+
     def test_is_stands_beside_none_true_and_false(self):
         for file, tree in trees():
             for node in every(tree, ast.Compare):
